@@ -143,7 +143,9 @@ func TestRound(t *testing.T) {
 			t.Errorf("%d: %v, %d", i, err, next)
 		}
 	}
-	s := pair(ref)
+	s := subst.None().SetType(1, refs(199, variable(1))).SetType(2, fun(refs(198, variable(2)), row(0), kind(api.TypInt)))
+	wantErr(t, "unlike", s, refs(199, variable(1)), ref(fun(refs(197, variable(2)), row(0), kind(api.TypInt))), api.ErrType)
+	s = pair(ref)
 	wantErr(t, "an end", s, variable(1), refs(150, kind(api.TypInt)), api.ErrType)
 	wantErr(t, "an end", s, refs(150, variable(3)), variable(1), api.OK)
 	wantErr(t, "an end", s, refs(150, variable(3)), refs(10, variable(1)), api.OK)

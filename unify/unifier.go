@@ -34,18 +34,18 @@ func (u *unifier) types(a, b api.Type, level int) api.Errno {
 		return u.beType(a.Var, b)
 	case b.Kind == api.TypVar:
 		return u.beType(b.Var, a)
+	case !both(a, b, api.TypFun, 2) && !both(a, b, api.TypRef, 1):
+		return api.ErrType
 	case beyond(a, deepest-level) && beyond(b, deepest-level):
 		return api.ErrLimit
-	case both(a, b, api.TypFun, 2):
-		return inOrder(
-			func() api.Errno { return u.types(a.Args[0], b.Args[0], level+1) },
-			func() api.Errno { return u.rows(a.Row, b.Row) },
-			func() api.Errno { return u.types(a.Args[1], b.Args[1], level+1) },
-		)
-	case both(a, b, api.TypRef, 1):
+	case a.Kind == api.TypRef:
 		return u.types(a.Args[0], b.Args[0], level+1)
 	}
-	return api.ErrType
+	return inOrder(
+		func() api.Errno { return u.types(a.Args[0], b.Args[0], level+1) },
+		func() api.Errno { return u.rows(a.Row, b.Row) },
+		func() api.Errno { return u.types(a.Args[1], b.Args[1], level+1) },
+	)
 }
 
 // both tells whether two types are of a kind, and have as many Args as right ones of that have.
