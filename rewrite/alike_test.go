@@ -29,7 +29,10 @@ func TestAlike(t *testing.T) {
 		{"match x { A y y -> y }", "match x { A a b -> b }", true}, {"match x { A y y -> y }", "match x { A a b -> a }", false}, {"match x { A y y z -> y }", "match x { A a b b -> b }", false},
 		{"handle E x { return x -> x }", "handle E x { return y -> y }", true}, {"handle E x { return x -> x }", "handle F x { return x -> x }", false}, {"handle E x { return x -> x }", "handle E y { return y -> y }", false},
 		{"handle E 1 { return x -> x; get x k -> k x }", "handle E 1 { return x -> x; get a b -> b a }", true}, {"handle E 1 { return x -> x; get x k -> k x }", "handle E 1 { return x -> x; get k x -> k x }", false}, {"handle E 1 { return x -> x; get x k -> k x }", "handle E 1 { return x -> x; put x k -> k x }", false}, {"handle E 1 { return x -> x; get x k -> k x }", "handle E 1 { return x -> x }", false},
-		{"fun _ -> 1", "fun x -> 1", true}, {"fun _ -> x", "fun x -> x", false}, {"fun _ -> _", "fun x -> x", true}, {"fun _ -> _", "fun x -> _", false}, {"_", "_", true}, {"match x { A _ _ -> 1 }", "match x { A x y -> 1 }", true}, {"match x { A _ _ -> _ }", "match x { A x y -> y }", true}, {"match x { A _ _ -> _ }", "match x { A x y -> x }", false},
+		{"fun _ -> 1", "fun x -> 1", true}, {"fun _ -> x", "fun x -> x", false}, {"fun _ -> _", "fun x -> x", false}, {"fun _ -> _", "fun x -> _", true}, {"fun _ -> _", "fun _ -> _", true}, {"fun _ -> _", "fun _ -> x", false}, {"_", "_", true}, {"_", "x", false}, {"fun x -> fun _ -> x", "fun _ -> fun x -> _", false}, {"fun x -> fun _ -> x", "fun y -> fun z -> y", true},
+		{"let _ = 1 in _", "let x = 1 in _", true}, {"let _ = 1 in _", "let x = 1 in x", false}, {"rec _ x = _ in _", "rec f x = _ in _", true}, {"rec _ x = _ in _", "rec f x = f in f", false}, {"rec f _ = _ in f", "rec f x = _ in f", true}, {"rec f _ = _ in f", "rec f x = x in f", false},
+		{"match x { A _ _ -> 1 }", "match x { A x y -> 1 }", true}, {"match x { A _ _ -> _ }", "match x { A x y -> y }", false}, {"match x { A _ _ -> _ }", "match x { A x y -> x }", false}, {"match x { A _ _ -> _ }", "match x { A x y -> _ }", true}, {"match x { A _ y -> y }", "match x { A y _ -> y }", false}, {"match x { A _ y -> y }", "match x { A y x -> x }", true},
+		{"handle E _ { return _ -> _ }", "handle E _ { return x -> _ }", true}, {"handle E _ { return _ -> _ }", "handle E _ { return x -> x }", false}, {"handle E 1 { return x -> x; get _ k -> k _ }", "handle E 1 { return x -> x; get x k -> k _ }", true}, {"handle E 1 { return x -> x; get _ k -> k _ }", "handle E 1 { return x -> x; get x k -> k x }", false},
 	} {
 		wantAlike(t, one.a+" and "+one.b, read(t, one.a), read(t, one.b), one.alike)
 	}
@@ -92,12 +95,12 @@ func TestAlikeLists(t *testing.T) {
 // TestAlikeNames: a name that is bound on one side alone is not the same, whatever else has that name.
 func TestAlikeNames(t *testing.T) {
 	inner := func(name string) api.Term { return fun("x", fun("y", variable(name))) }
-	for _, a := range []string{"x", "y", "z", "", "x'1"} {
-		for _, b := range []string{"x", "y", "z", "", "x'1"} {
+	for _, a := range []string{"x", "y", "z", "", "x'1", "_"} {
+		for _, b := range []string{"x", "y", "z", "", "x'1", "_"} {
 			want(t, []any{a, b}, rewrite.Alike(inner(a), inner(b)), a == b)
 			want(t, []any{a, b}, rewrite.Alike(variable(a), variable(b)), a == b)
-			want(t, []any{a, b}, rewrite.Alike(fun(a, variable(a)), fun(b, variable(b))), true)
-			want(t, []any{a, b}, rewrite.Alike(fun(a, variable(b)), fun(b, variable(b))), a == b)
+			want(t, []any{a, b}, rewrite.Alike(fun(a, variable(a)), fun(b, variable(b))), (a == "_") == (b == "_"))
+			want(t, []any{a, b}, rewrite.Alike(fun(a, variable(b)), fun(b, variable(b))), a == b || b == "_")
 		}
 	}
 }

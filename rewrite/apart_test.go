@@ -48,7 +48,7 @@ func TestApart(t *testing.T) {
 	}
 }
 
-// TestApartNobody: `_` is another name, too, wherever it is bound.
+// TestApartNobody: a binder's `_` is another name, too; but it binds nothing: variables `_` are free, and stay.
 func TestApartNobody(t *testing.T) {
 	for source, apart := range map[string]string{
 		"_":                                  "_",
@@ -58,8 +58,19 @@ func TestApartNobody(t *testing.T) {
 		"rec _ _ = 1 in 2":                   "(rec _'1 _'2 1 2)",
 		"match x { A _ _ y -> y; B _ -> 1 }": "(match x {A _'1 _'2 y'3: y'3} {B _'4: 1})",
 		"handle E 1 { return _ -> 1; get _ k -> k 1; put x _ -> x }": "(handle E 1 {return _'1: 1} {get _'2 k'3: (k'3 1)} {put x'4 _'5: x'4})",
-		"fun _ -> _":                      "(fun _'1 _'1)",
-		"fun _ -> match x { A _ _ -> _ }": "(fun _'1 (match x {A _'2 _'3: _'3}))",
+		"fun _ -> _":                         "(fun _'1 _)",
+		"fun x -> fun _ -> x":                "(fun x'1 (fun _'2 x'1))",
+		"fun x -> fun _ -> x _":              "(fun x'1 (fun _'2 (x'1 _)))",
+		"(fun _ -> _) _":                     "((fun _'1 _) _)",
+		"let _ = _ in _":                     "(let _'1 _ _)",
+		"let _ = fun _ -> _ in fun x -> _ x": "(let _'1 (fun _'2 _) (fun x'3 (_ x'3)))",
+		"rec _ x = _ x in _":                 "(rec _'1 x'2 (_ x'2) _)",
+		"rec f _ = f _ in f _":               "(rec f'1 _'2 (f'1 _) (f'1 _))",
+		"rec _ _ = _ in _":                   "(rec _'1 _'2 _ _)",
+		"match () { A _ -> _ }":              "(match () {A _'1: _})",
+		"match () { A x _ x -> _ x }":        "(match () {A x'1 _'2 x'3: (_ x'3)})",
+		"fun _ -> match x { A _ _ -> _ }":    "(fun _'1 (match x {A _'2 _'3: _}))",
+		"handle E _ { return _ -> _; get _ k -> k _; put x _ -> _ x }": "(handle E _ {return _'1: _} {get _'2 k'3: (k'3 _)} {put x'4 _'5: (_ x'4)})",
 	} {
 		want(t, source, text(rewrite.Apart(read(t, source))), apart)
 	}
@@ -92,6 +103,8 @@ func TestApartTwice(t *testing.T) {
 	for range 12 {
 		many = fun("x", many)
 	}
+	nobody := fun("_", variable("_"))
+	want(t, "nobody", text(rewrite.Apart(rewrite.Apart(nobody))), "(fun _'1'1 _)")
 	want(t, "many", text(rewrite.Apart(many)), "(fun x'1 (fun x'2 (fun x'3 (fun x'4 (fun x'5 (fun x'6 (fun x'7 (fun x'8 (fun x'9 (fun x'10 (fun x'11 (fun x'12 ()))))))))))))")
 }
 
@@ -104,7 +117,9 @@ func TestApartKinds(t *testing.T) {
 			became := term
 			switch kind {
 			case api.TermVar:
-				became.Name = name + "'1"
+				if name != "_" {
+					became.Name = name + "'1"
+				}
 			case api.TermFun, api.TermLet:
 				became.Name = name + "'2"
 			case api.TermRec:

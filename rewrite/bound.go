@@ -1,20 +1,26 @@
 package rewrite
 
+// nobody is the name that is never bound, though binders may have it: its variables are free.
+const nobody = "_"
+
 // bound tells by which numbers names are bound where one is: of each name the innermost one's last.
 type bound map[string][]int
 
 // enter lets names be bound, by the numbers from first on.
 func (b bound) enter(first int, names ...string) {
 	for n, name := range names {
-		b[name] = append(b[name], first+n)
+		if name != nobody {
+			b[name] = append(b[name], first+n)
+		}
 	}
 }
 
 // leave lets names be bound as they were ahead of enter.
 func (b bound) leave(names ...string) {
 	for _, name := range names {
-		numbers := b[name]
-		b[name] = numbers[:len(numbers)-1]
+		if name != nobody {
+			b[name] = b[name][:len(b[name])-1]
+		}
 	}
 }
 

@@ -161,24 +161,28 @@ func TestMadeApartStays(t *testing.T) {
 	}
 }
 
-// TestMadeApartFree: the same names are free, as often, but for `_`, that may be bound here.
+// TestMadeApartFree: the same names are free, as often.
 func TestMadeApartFree(t *testing.T) {
 	luck := dice(4)
+	nobody := 0
 	for n := range 5000 {
 		term := luck.term(n % 7)
 		apart := rewrite.Apart(term)
-		for _, name := range []string{"x", "y", "z", "k"} {
+		want(t, term, names.Free(apart), names.Free(term))
+		for _, name := range []string{"x", "y", "z", "k", "_"} {
 			want(t, term, names.Uses(apart, name), names.Uses(term, name))
 		}
-		for _, name := range names.Free(apart) {
-			if strings.Contains(name, "'") {
-				t.Errorf("%+v: %s is free", term, name)
-			}
+		if names.Uses(term, "_") > 0 {
+			nobody++
 		}
+	}
+	if nobody < 500 {
+		t.Errorf("%d terms with a variable _", nobody)
 	}
 }
 
-// TestMadeApartRuns: a program runs as it did, step by step.
+// TestMadeApartRuns: a program without variables `_` runs as it did, step by step. (By source.Run `_` has a value, like
+// other names; so those would be stuck, once they are free.)
 func TestMadeApartRuns(t *testing.T) {
 	luck := dice(5)
 	ends := map[int]int{}
@@ -188,6 +192,7 @@ func TestMadeApartRuns(t *testing.T) {
 			is := pick(&luck, []api.Term{{Kind: api.TermInt, N: luck.under(3)}, fun("x", variable("x")), pair(luck.leaf(), luck.leaf()), fun("y", luck.leaf())})
 			term = let(name, is, term)
 		}
+		luck.somebody(&term)
 		input, fuel := []int{3, 1, 4}[:luck.under(4)], pick(&luck, []int{20, 50, 300})
 		was := source.Run(api.Program{Body: term}, input, fuel)
 		want(t, term, source.Run(api.Program{Body: rewrite.Apart(term)}, input, fuel), was)
@@ -196,6 +201,15 @@ func TestMadeApartRuns(t *testing.T) {
 	for kind, least := range map[int]int{api.OutValue: 3000, api.OutMore: 1000, api.OutInput: 300, api.OutStuck: 3000} {
 		if ends[kind] < least {
 			t.Errorf("%d ended as %d", ends[kind], kind)
+		}
+	}
+}
+
+// somebody gives variables `_` other names.
+func (d *dice) somebody(t *api.Term) {
+	for _, at := range within(t) {
+		for at.Kind == api.TermVar && at.Name == "_" {
+			at.Name = d.name()
 		}
 	}
 }
@@ -303,6 +317,7 @@ func TestMadeAround(t *testing.T) {
 		same := nameless(a) == nameless(c)
 		want(t, "fun", rewrite.Alike(fun("none", a), fun("nobody", b)), true)
 		want(t, "app", []bool{rewrite.Alike(app(a, c), app(b, c)), rewrite.Alike(app(a, b), app(c, b)), rewrite.Alike(app(b, a), app(b, c))}, []bool{true, same, same})
+		want(t, "nobody", []bool{rewrite.Alike(fun("_", a), fun("none", a)), rewrite.Alike(fun("_", a), fun("none", c))}, []bool{true, same})
 		for _, name := range []string{"x", "y", "z", "k"} {
 			want(t, "let", rewrite.Alike(let(name, b, a), let(name, a, a)), true)
 			want(t, "other", rewrite.Alike(fun(name, a), fun("none", a)), names.Uses(a, name) == 0)

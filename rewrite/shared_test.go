@@ -27,7 +27,7 @@ func TestShared(t *testing.T) {
 	ways := func(name, other string) func(a, b api.Term) api.Term {
 		return func(a, b api.Term) api.Term { return match(a, arm("A", b, name, other), arm("B", a, other)) }
 	}
-	x, y, z := variable("x"), variable("y"), variable("z")
+	x, y, z, nobody := variable("x"), variable("y"), variable("z"), variable("_")
 	for _, deep := range []int{1, 2, 10, 15, 16, 17, 18, 30, 200, 2000} {
 		wantPair := func(what string, a, b api.Term, alike bool) {
 			t.Helper()
@@ -49,6 +49,11 @@ func TestShared(t *testing.T) {
 		wantPair("ways", twice(pair(x, z), deep, ways("x", "y")), twice(pair(x, z), deep, ways("x", "y")), true)
 		wantPair("other ways", fun("x", twice(pair(x, z), deep, ways("x", "x"))), fun("y", twice(pair(y, z), deep, ways("_", "y"))), true)
 		wantPair("no ways", fun("x", twice(pair(x, z), deep, ways("x", "y"))), fun("y", twice(pair(y, z), deep, ways("x", "y"))), false)
+		wantPair("nobody", fun("_", twice(nobody, deep, pair)), fun("x", twice(nobody, deep, pair)), true)
+		wantPair("nobody and somebody", fun("_", twice(nobody, deep, pair)), fun("x", twice(x, deep, pair)), false)
+		wantPair("under nobody", twice(pair(x, nobody), deep, under("_")), twice(pair(x, nobody), deep, under("y")), true)
+		wantPair("under nobody and somebody", twice(nobody, deep, under("_")), twice(y, deep, under("y")), false)
+		wantPair("ways of nobody", fun("x", twice(pair(x, nobody), deep, ways("x", "_"))), fun("y", twice(pair(y, nobody), deep, ways("y", "z"))), true)
 		one := twice(x, deep, pair)
 		wantPair("two of one", pair(fun("x", one), fun("y", one)), pair(fun("x", one), fun("z", one)), true)
 		wantPair("one of two", pair(fun("x", one), fun("y", one)), pair(fun("z", one), fun("y", one)), false)

@@ -29,7 +29,7 @@ func (n *numberer) term(t api.Term, around []became) api.Term {
 	switch t.Kind {
 	case api.TermVar:
 		for _, b := range around {
-			if b.was == t.Name {
+			if b.was == t.Name && b.was != "_" {
 				t.Name = b.is
 				break
 			}
@@ -75,7 +75,7 @@ func nameless(t api.Term, bound ...string) string {
 	switch t.Kind {
 	case api.TermVar:
 		name = fmt.Sprintf("free %q", t.Name)
-		if at := lastIndex(bound, t.Name); at >= 0 {
+		if at := lastIndex(bound, t.Name); at >= 0 && t.Name != "_" {
 			name = fmt.Sprintf("bound %d", len(bound)-1-at)
 		}
 	case api.TermFun, api.TermLet:
